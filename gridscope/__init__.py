@@ -1,0 +1,1 @@
+"""Gridscope: a great sheet seen through a small screen."""
