@@ -77,10 +77,13 @@ def laid(text, high, wide, *, side="left", height="top", wrap=False):
     return [spread(line_on(lines, row, high, height), wide, side) for row in range(high)]
 
 
-def laid_sign(text, high, wide, look, down, across):
-    """One sign of a laid text, without the rest: a box of many rows and columns is too great to be laid for it."""
+def laid_part(text, high, wide, look, downs, acrosses):
+    """The signs of a laid text on some of its rows and columns: a great box has too many to be laid whole."""
     side, height, wrap = look
     lines = set_lines(text, wide, wrap=wrap)
-    line = line_on(lines, down, high, height)
-    at = across - lead(wide - len(line), side)
-    return line[at] if 0 <= at < len(line) else BLANK
+    part = []
+    for down in downs:
+        line = line_on(lines, down, high, height)
+        first = lead(wide - len(line), side)
+        part.append("".join([line[at - first] if first <= at < first + len(line) else BLANK for at in acrosses]))
+    return part

@@ -2,7 +2,7 @@
 
 from gridscope.boxes import COLUMN, ROW, has
 from gridscope.errors import BadMany, NoCell
-from gridscope.lines import BLANK, PLAIN_LOOK, laid_sign
+from gridscope.lines import BLANK, PLAIN_LOOK, laid_part
 from gridscope.sheet_deeds import do_deed, most_along
 from gridscope.sizes import Sizes
 
@@ -79,19 +79,24 @@ class Sheet:
         """Do a deed."""
         do_deed(self, deed)
 
+    def box_at(self, y, x):
+        """The box of the cell in which a point lies, or None beyond the sheet."""
+        if y >= self.heights.total() or x >= self.widths.total():
+            return None
+        return self.box(self.heights.at(y)[0], self.widths.at(x)[0])
+
     def sign(self, y, x):
         """The sign at a point."""
-        if y >= self.heights.total() or x >= self.widths.total():
+        box = self.box_at(y, x)
+        if box is None:
             return BEYOND
-        row, column, high, wide = self.box(self.heights.at(y)[0], self.widths.at(x)[0])
+        row, column, high, wide = box
         text = self.written.get((row, column), "")
         if text == "":
             return BLANK
-        top = self.heights.ahead(row)
-        left = self.widths.ahead(column)
-        counted_high = self.heights.ahead(row + high) - top
-        counted_wide = self.widths.ahead(column + wide) - left
-        return laid_sign(text, counted_high, counted_wide, self.look(row, column), y - top, x - left)
+        top, counted_high = self.heights.reach(row, high)
+        left, counted_wide = self.widths.reach(column, wide)
+        return laid_part(text, counted_high, counted_wide, self.look(row, column), [y - top], [x - left])[0]
 
     def twin(self):
         """Another sheet like this one, on its own from now on."""

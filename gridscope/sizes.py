@@ -69,6 +69,11 @@ class Sizes:
         """The sum of all counted sizes."""
         return self.ahead(self.many)
 
+    def reach(self, first, many):
+        """The pair (sum ahead, sum of counted sizes) of so many things from a number on."""
+        begin = self.ahead(first)
+        return (begin, self.ahead(first + many) - begin)
+
     def at(self, point):
         """The pair (number, within) of the thing in which a point lies."""
         if point < 0 or point >= self.total():

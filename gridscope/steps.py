@@ -3,6 +3,7 @@
 from gridscope.boxes import has, shared
 
 PUT = "put"
+SHIFT = "shift"
 
 
 def row_puts(v, old, new):
@@ -25,6 +26,11 @@ def puts(old, new):
     for v, row in enumerate(new):
         told.extend(row_puts(v, old[v], row))
     return told
+
+
+def signs_put(some):
+    """How many signs are put by steps."""
+    return sum([len(step[3]) for step in some if step[0] == PUT])
 
 
 def with_put(row, u, text):

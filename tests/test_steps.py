@@ -6,35 +6,9 @@ import unittest
 
 from gridscope import steps
 from gridscope.steps import behind_steps, puts
+from plain_steps import plain_puts, plain_step, signs_of
 
 FAR = 10 ** 29
-
-
-def signs_of(rows):
-    return {(v, u): sign for v, row in enumerate(rows) for u, sign in enumerate(row)}
-
-
-def rows_of(signs):
-    """The drawing of signs by places."""
-    high, wide = 1 + max(v for v, _ in signs), 1 + max(u for _, u in signs)
-    return ["".join(signs[v, u] for u in range(wide)) for v in range(high)]
-
-
-def plain_step(rows, step):
-    """The drawing behind a step, place by place."""
-    old, new = signs_of(rows), signs_of(rows)
-    word, v, u, *rest = step
-    if word == "put":
-        for at, sign in enumerate(rest[0]):
-            new[v, u + at] = sign
-        return rows_of(new)
-    high, wide, down, across = rest
-    stretch = list(itertools.product(range(v, v + high), range(u, u + wide)))
-    for place in stretch:
-        origin = (place[0] + down, place[1] + across)
-        if origin in stretch:
-            new[place] = old[origin]
-    return rows_of(new)
 
 
 def some_drawing(chance, high, wide, signs):
@@ -60,6 +34,7 @@ class Puts(unittest.TestCase):
         # No two puts are neighbours: each stretch is as long as can be.
         for (_, v, u, text), (_, later, first, _) in itertools.pairwise(told):
             self.assertTrue(v < later or u + len(text) < first)
+        self.assertEqual(told, plain_puts(old, new))
         self.assertEqual(behind_steps(old, told), new)
 
     def test_by_hand(self):
