@@ -8,7 +8,8 @@ COLUMN = "column"
 
 def has(box, row, column):
     """True where the cell is in the box."""
-    return meet(box, (row, column, 1, 1))
+    first, left, high, wide = box
+    return first <= row < first + high and left <= column < left + wide
 
 
 def meet(one, other):

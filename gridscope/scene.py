@@ -5,14 +5,14 @@ from gridscope.sheet import BEYOND
 from gridscope.steps import SHIFT, behind_steps, puts, signs_put, with_put
 
 
-def hung_on(cells, box, down, across):
-    """What a box hangs on along the two ways; its seen part comes last, its rows' and its columns' numbers."""
+def hung_on(cells, text, box, down, across):
+    """What a box with a text hangs on; its seen part comes last, the numbers of its rows and those of its columns."""
     row, column, high, wide = box
     top, counted_high = cells.heights.reach(row, high)
     left, counted_wide = cells.widths.reach(column, wide)
     rows = [down.point_of(v) - top for v in down.places_of(row, high)]
     columns = [across.point_of(u) - left for u in across.places_of(column, wide)]
-    return (cells.text(row, column), counted_high, counted_wide, cells.look(row, column), rows, columns)
+    return (text, counted_high, counted_wide, cells.look(row, column), rows, columns)
 
 
 def seen_boxes(stand):
@@ -21,7 +21,7 @@ def seen_boxes(stand):
     seen = {}
     for row, column, text in stand.cells.texts():
         box = stand.cells.box(row, column)
-        hung = hung_on(stand.cells, box, down, across)
+        hung = hung_on(stand.cells, text, box, down, across)
         if hung[4] and hung[5]:
             seen[box] = hung
     return seen

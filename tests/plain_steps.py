@@ -47,12 +47,13 @@ def put_count(some):
 
 
 def plain_steps(old, new, held, grown):
-    """The steps from one drawing to the next: held height and width if both stayed, else None, and how the scroll grew."""
+    """The steps from one drawing to the next, by the held sums (None if they changed) and how the scroll grew."""
     without = plain_puts(old, new)
     if held is None or grown == (0, 0):
         return without
     shifts = []
-    for rows_held, columns_held, down, across in ((False, False, *grown), (True, False, 0, grown[1]), (False, True, grown[0], 0)):
+    for rows_held, columns_held, down, across in ((False, False, *grown), (True, False, 0, grown[1]),
+                                                  (False, True, grown[0], 0)):
         stretch = [place for place in sorted(signs_of(new))
                    if (place[0] < held[0]) == rows_held and (place[1] < held[1]) == columns_held]
         if stretch and (down, across) != (0, 0):

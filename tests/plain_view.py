@@ -107,7 +107,8 @@ class PlainStand:
         """Show the caret: of all scrolls that show its box as it must be the nearest one."""
         box = self.box_of_caret()
         for side in (0, 1):
-            begin, length, held, places = self.begin(side, box), self.length(side, box), self.held(side), self.screen[side]
+            begin, length = self.begin(side, box), self.length(side, box)
+            held, places = self.held(side), self.screen[side]
             if length == 0 or begin < held or held >= places:
                 continue
             whole = range(begin, begin + length)
@@ -296,7 +297,8 @@ def told(view):
         "deeds": view.deeds(),
         "points": [view.point(*place) for place in places],
         "hits": [view.hit(*place) for place in places],
-        "places": [view.places(row, column) for row in range(sheet.rows().many) for column in range(sheet.columns().many)],
+        "places": [view.places(row, column) for row in range(sheet.rows().many)
+                   for column in range(sheet.columns().many)],
     }
 
 

@@ -39,7 +39,8 @@ class Begun(unittest.TestCase):
 
     def test_said(self):
         desk = some_desk()
-        for number, line in enumerate(("caret", "no", "", "text 9 9 x", "hit 99 99", "undo", "redo", "redo", "go up 1", "all 0")):
+        for number, line in enumerate(("caret", "no", "", "text 9 9 x", "hit 99 99", "undo", "redo", "redo",
+                                       "go up 1", "all 0")):
             desk.say(line)
             self.assertEqual(desk.said, number + 1)
 
@@ -51,12 +52,18 @@ class Begun(unittest.TestCase):
 class Answers(unittest.TestCase):
     def test_deeds(self):
         for line, deed in (
-            ("text 3 2 a text", ("text", 3, 2, "a text")), ("text 0 0 ", ("text", 0, 0, "")), ("text 0 0   x ", ("text", 0, 0, "  x ")),
-            ("look 0 0 right middle wrap", ("look", 0, 0, "right", "middle", True)), ("look 0 0 left top nowrap", ("look", 0, 0, "left", "top", False)),
-            ("merge 3 0 2 2", ("merge", 3, 0, 2, 2)), ("part 2 2", ("part", 2, 2)), ("size row 0 5", ("size", "row", 0, 5)),
-            ("common column 1", ("common", "column", 1)), ("hide row 0 2", ("hide", "row", 0, 2)), ("show row 0 2", ("show", "row", 0, 2)),
-            ("put column 4 3", ("put", "column", 4, 3)), ("cut row 0 1", ("cut", "row", 0, 1)), ("fit column 0", ("fit", "column", 0)),
-            ("hold 1 1", ("hold", 1, 1)), ("screen 2 4", ("screen", 2, 4)), ("scroll 1 2", ("scroll", 1, 2)), ("caret 4 3", ("caret", 4, 3)),
+            ("text 3 2 a text", ("text", 3, 2, "a text")), ("text 0 0 ", ("text", 0, 0, "")),
+            ("text 0 0   x ", ("text", 0, 0, "  x ")),
+            ("look 0 0 right middle wrap", ("look", 0, 0, "right", "middle", True)),
+            ("look 0 0 left top nowrap", ("look", 0, 0, "left", "top", False)),
+            ("merge 3 0 2 2", ("merge", 3, 0, 2, 2)), ("part 2 2", ("part", 2, 2)),
+            ("size row 0 5", ("size", "row", 0, 5)),
+            ("common column 1", ("common", "column", 1)), ("hide row 0 2", ("hide", "row", 0, 2)),
+            ("show row 0 2", ("show", "row", 0, 2)),
+            ("put column 4 3", ("put", "column", 4, 3)), ("cut row 0 1", ("cut", "row", 0, 1)),
+            ("fit column 0", ("fit", "column", 0)),
+            ("hold 1 1", ("hold", 1, 1)), ("screen 2 4", ("screen", 2, 4)), ("scroll 1 2", ("scroll", 1, 2)),
+            ("caret 4 3", ("caret", 4, 3)),
             ("go down 2", ("go", "down", 2)),
         ):
             desk, view = some_desk(), view_of(5, 4, BEGUN, wide=3)
@@ -66,8 +73,10 @@ class Answers(unittest.TestCase):
 
     def test_undo_and_redo(self):
         desk = some_desk()
-        self.assertEqual([desk.say(line) for line in ("redo", "undo", "undo", "redo", "undo", "undo", "undo", "undo", "redo")],
-                         ["refused nothingleft", "done", "done", "done", "done", "done", "done", "refused nothingleft", "done"])
+        self.assertEqual([desk.say(line) for line in ("redo", "undo", "undo", "redo", "undo", "undo", "undo", "undo",
+                                                      "redo")],
+                         ["refused nothingleft", "done", "done", "done", "done", "done", "done",
+                          "refused nothingleft", "done"])
         self.assertEqual(desk.view.deeds(), BEGUN[:1])
 
     def test_screen(self):
@@ -79,17 +88,22 @@ class Answers(unittest.TestCase):
 
     def test_hit(self):
         desk = some_desk()
-        for line, due in (("hit 0 0", "0 0 1 1"), ("hit 2 8", "1 1 2 2"), ("hit 1 3", "1 1 2 2"), ("hit 2 2", "2 0 1 1"), ("hit 3 0", "refused noplace"),
-                          ("hit 0 9", "refused noplace"), ("hit -1 0", "refused noplace"), ("hit 0 -9999999", "refused noplace")):
+        for line, due in (("hit 0 0", "0 0 1 1"), ("hit 2 8", "1 1 2 2"), ("hit 1 3", "1 1 2 2"),
+                          ("hit 2 2", "2 0 1 1"), ("hit 3 0", "refused noplace"),
+                          ("hit 0 9", "refused noplace"), ("hit -1 0", "refused noplace"),
+                          ("hit 0 -9999999", "refused noplace")):
             self.assertEqual(desk.say(line), due, line)
         desk.say("screen 6 13")
-        for line, due in (("hit 5 0", "beyond"), ("hit 0 12", "beyond"), ("hit 4 11", "4 3 1 1"), ("hit 6 0", "refused noplace")):
+        for line, due in (("hit 5 0", "beyond"), ("hit 0 12", "beyond"), ("hit 4 11", "4 3 1 1"),
+                          ("hit 6 0", "refused noplace")):
             self.assertEqual(desk.say(line), due, line)
 
     def test_places(self):
         desk = some_desk()
-        for line, due in (("places 0 0", "0 0 1 3"), ("places 2 2", "1 3 2 6"), ("places 3 0", "none"), ("places 0 3", "none"),
-                          ("places 5 0", "refused nocell"), ("places 0 4", "refused nocell"), ("places -1 0", "refused nocell")):
+        for line, due in (("places 0 0", "0 0 1 3"), ("places 2 2", "1 3 2 6"), ("places 3 0", "none"),
+                          ("places 0 3", "none"),
+                          ("places 5 0", "refused nocell"), ("places 0 4", "refused nocell"),
+                          ("places -1 0", "refused nocell")):
             self.assertEqual(desk.say(line), due, line)
         desk.say("hide row 0 1")
         self.assertEqual((desk.say("places 0 0"), desk.say("places 2 1")), ("none", "0 3 2 6"))
@@ -124,11 +138,16 @@ class Answers(unittest.TestCase):
 
     def test_refused(self):
         for line, due in (
-            ("text 5 0 x", "nocell"), ("text 0 0 " + "x" * 41, "badtext"), ("text 2 2 x", "inside"), ("look 0 0 no top wrap", "badlook"),
-            ("look 0 0  top wrap", "badlook"), ("merge 0 0 1 1", "badmany"), ("merge 0 0 2 2", "overlap"), ("part 0 0", "notmerged"),
-            ("size no 0 1", "badaxis"), ("size  0 1", "badaxis"), ("size row 5 1", "noindex"), ("size row 0 61", "badsize"),
-            ("hide row -1 1", "noindex"), ("put column 0 1000", "full"), ("hold 6 0", "badhold"), ("screen 31 1", "badscreen"),
-            ("scroll 9 0", "badscroll"), ("go no 1", "badway"), ("go  1", "badway"), ("go up 0", "badmany"), ("caret 0 4", "nocell"),
+            ("text 5 0 x", "nocell"), ("text 0 0 " + "x" * 41, "badtext"), ("text 2 2 x", "inside"),
+            ("look 0 0 no top wrap", "badlook"),
+            ("look 0 0  top wrap", "badlook"), ("merge 0 0 1 1", "badmany"), ("merge 0 0 2 2", "overlap"),
+            ("part 0 0", "notmerged"),
+            ("size no 0 1", "badaxis"), ("size  0 1", "badaxis"), ("size row 5 1", "noindex"),
+            ("size row 0 61", "badsize"),
+            ("hide row -1 1", "noindex"), ("put column 0 1000", "full"), ("hold 6 0", "badhold"),
+            ("screen 31 1", "badscreen"),
+            ("scroll 9 0", "badscroll"), ("go no 1", "badway"), ("go  1", "badway"), ("go up 0", "badmany"),
+            ("caret 0 4", "nocell"),
             ("redo", "nothingleft"), ("hit 3 0", "noplace"), ("places 5 0", "nocell"),
         ):
             desk = some_desk()
@@ -167,13 +186,20 @@ class Answers(unittest.TestCase):
 
 class NoLines(unittest.TestCase):
     LINES = (
-        "", " ", "no", "done", "undo ", " undo", "undo 1", "Undo", "redo ", "redo x", "screen ", " screen", "screen 1", "screen 1 2 3", "screen 1  2",
-        "screen  1 2", "screen 1 x", "caret ", "caret 1", "caret 1 1 1", "caret 01 1", "scroll ", "scroll 1", "scroll 0 -0", "scroll x 0", "steps ",
-        "steps 1", " steps", "hit", "hit ", "hit 1", "hit 1 ", "hit  1 2", "hit 1  2", "hit 1 2 ", "hit 1 2 3", "hit 01 2", "hit -0 2", "hit x 2", "hit +1 2",
-        "hit 12345678 0", "hit 0 1.0", "Hit 0 0", "hit", "places", "places 1", "places 0 0 ", "places  0 0", "places 0 0 0", "places 00 0", "places 0 x",
-        "places 0 -12345678", "all", "all 0", "all 1", "sheet 5 4 1 6", "text", "text 0 0", "text 0", "text 0  x", "text x 0 x", "text 00 0 x",
-        "look 0 0 left top", "look 0 0 left top True", "look 0 0 left top wrap ", "merge 0 0 2", "merge 0 0 2 2 2", "part 0 0 ", "size row 0", "size row 0 x",
-        "common row", "common row 0 ", "hide row 0 1 1", "go down", "go down 1 ", "go 1", "hold 1", "view", "twin", "screen\n", "undo undo", "laid", "deeds",
+        "", " ", "no", "done", "undo ", " undo", "undo 1", "Undo", "redo ", "redo x", "screen ", " screen",
+        "screen 1", "screen 1 2 3", "screen 1  2",
+        "screen  1 2", "screen 1 x", "caret ", "caret 1", "caret 1 1 1", "caret 01 1", "scroll ", "scroll 1",
+        "scroll 0 -0", "scroll x 0", "steps ",
+        "steps 1", " steps", "hit", "hit ", "hit 1", "hit 1 ", "hit  1 2", "hit 1  2", "hit 1 2 ", "hit 1 2 3",
+        "hit 01 2", "hit -0 2", "hit x 2", "hit +1 2",
+        "hit 12345678 0", "hit 0 1.0", "Hit 0 0", "hit", "places", "places 1", "places 0 0 ", "places  0 0",
+        "places 0 0 0", "places 00 0", "places 0 x",
+        "places 0 -12345678", "all", "all 0", "all 1", "sheet 5 4 1 6", "text", "text 0 0", "text 0", "text 0  x",
+        "text x 0 x", "text 00 0 x",
+        "look 0 0 left top", "look 0 0 left top True", "look 0 0 left top wrap ", "merge 0 0 2", "merge 0 0 2 2 2",
+        "part 0 0 ", "size row 0", "size row 0 x",
+        "common row", "common row 0 ", "hide row 0 1 1", "go down", "go down 1 ", "go 1", "hold 1", "view", "twin",
+        "screen\n", "undo undo", "laid", "deeds",
     )
 
     def test_lines(self):
@@ -188,9 +214,12 @@ class NoLines(unittest.TestCase):
 
     def test_numbers(self):
         desk = some_desk()
-        for number, due in (("0", "0 0 1 1"), ("2", "0 0 1 1"), ("-1", "refused noplace"), ("9999999", "refused noplace"), ("-9999999", "refused noplace"),
-                            ("10000000", "no line"), ("-10000000", "no line"), ("00", "no line"), ("-0", "no line"), ("-", "no line"), ("--1", "no line"),
-                            ("1-", "no line"), ("1_0", "no line"), ("1e1", "no line"), ("0x1", "no line"), ("-00", "no line"), ("007", "no line"),
+        for number, due in (("0", "0 0 1 1"), ("2", "0 0 1 1"), ("-1", "refused noplace"),
+                            ("9999999", "refused noplace"), ("-9999999", "refused noplace"),
+                            ("10000000", "no line"), ("-10000000", "no line"), ("00", "no line"), ("-0", "no line"),
+                            ("-", "no line"), ("--1", "no line"),
+                            ("1-", "no line"), ("1_0", "no line"), ("1e1", "no line"), ("0x1", "no line"),
+                            ("-00", "no line"), ("007", "no line"),
                             ("-01", "no line"), ("0000000", "no line"), ("~", "no line")):
             self.assertEqual(desk.say("hit 0 " + number), due, number)
 

@@ -14,13 +14,17 @@ from test_view_runs import some_step
 
 FIRST = "sheet 5 4 1 6\n"
 WRITTEN = [
-    (("text", 3, 2, "a text"), "text 3 2 a text"), (("text", 0, 0, ""), "text 0 0 "), (("text", 0, 0, "  a  b "), "text 0 0   a  b "),
-    (("text", 0, 0, " "), "text 0 0  "), (("text", 0, 0, "all 3"), "text 0 0 all 3"), (("text", 0, 0, "~!\"#$&'()*"), "text 0 0 ~!\"#$&'()*"),
+    (("text", 3, 2, "a text"), "text 3 2 a text"), (("text", 0, 0, ""), "text 0 0 "),
+    (("text", 0, 0, "  a  b "), "text 0 0   a  b "),
+    (("text", 0, 0, " "), "text 0 0  "), (("text", 0, 0, "all 3"), "text 0 0 all 3"),
+    (("text", 0, 0, "~!\"#$&'()*"), "text 0 0 ~!\"#$&'()*"),
     (("look", 1, 2, "left", "top", True), "look 1 2 left top wrap"),
     (("look", 1, 2, "right", "bottom", False), "look 1 2 right bottom nowrap"),
     (("merge", 0, 1, 2, 3), "merge 0 1 2 3"), (("part", 4, 3), "part 4 3"), (("size", "row", 0, 12), "size row 0 12"),
-    (("common", "column", 3), "common column 3"), (("hide", "row", 1, 2), "hide row 1 2"), (("show", "column", 0, 4), "show column 0 4"),
-    (("put", "row", 5, 1000), "put row 5 1000"), (("cut", "column", 1, 1), "cut column 1 1"), (("fit", "row", 2), "fit row 2"),
+    (("common", "column", 3), "common column 3"), (("hide", "row", 1, 2), "hide row 1 2"),
+    (("show", "column", 0, 4), "show column 0 4"),
+    (("put", "row", 5, 1000), "put row 5 1000"), (("cut", "column", 1, 1), "cut column 1 1"),
+    (("fit", "row", 2), "fit row 2"),
     (("hold", 1, 0), "hold 1 0"), (("screen", 30, 60), "screen 30 60"), (("scroll", 0, 0), "scroll 0 0"),
     (("caret", 4, 3), "caret 4 3"), (("go", "down", 99), "go down 99"),
 ]
@@ -38,8 +42,10 @@ class Rows(unittest.TestCase):
         self.assertEqual(deed_rows(("all", deeds)), ["all 22"] + [row for _, row in WRITTEN])
 
     def test_deeds_that_would_be_refused(self):
-        for deed, row in ((("text", -1, -20, "x"), "text -1 -20 x"), (("size", "no", 0, 61), "size no 0 61"), (("go", "", 1), "go  1"),
-                          (("look", 0, 0, "", "", True), "look 0 0   wrap"), (("caret", 10 ** 29, 0), f"caret {10 ** 29} 0")):
+        for deed, row in ((("text", -1, -20, "x"), "text -1 -20 x"), (("size", "no", 0, 61), "size no 0 61"),
+                          (("go", "", 1), "go  1"),
+                          (("look", 0, 0, "", "", True), "look 0 0   wrap"),
+                          (("caret", 10 ** 29, 0), f"caret {10 ** 29} 0")):
             self.assertEqual(deed_rows(deed), [row])
 
     def test_told(self):
@@ -148,11 +154,16 @@ class NoPages(unittest.TestCase):
         self.check(" ", 0)
 
     def test_first_rows(self):
-        for row in ("sheet", "sheet ", "sheet 5 4 1", "sheet 5 4 1 6 7", "sheet 5 4 1 6 ", " sheet 5 4 1 6", "sheet  5 4 1 6", "Sheet 5 4 1 6",
-                    "sheet 5 4 1 06", "sheet 05 4 1 6", "sheet +5 4 1 6", "sheet 5 4 1 -0", "sheet 5 4 1 x", "sheet 5 4 1 ", "sheet 5 4  6",
-                    "sheet 5 4 1 6.0", "sheet5 4 1 6", "sheet 10000000 4 1 6", "sheet 00000005 4 1 6", "text 0 0 x", "all 0", "5 4 1 6",
-                    "sheet 0 4 1 6", "sheet 5 0 1 6", "sheet 5 4 0 6", "sheet 5 4 1 0", "sheet 5 4 61 6", "sheet 5 4 1 61",
-                    "sheet 1000001 4 1 6", "sheet 5 1001 1 6", "sheet -5 4 1 6", "sheet 5 4 1 -6", "sheet 9999999 4 1 6"):
+        for row in ("sheet", "sheet ", "sheet 5 4 1", "sheet 5 4 1 6 7", "sheet 5 4 1 6 ", " sheet 5 4 1 6",
+                    "sheet  5 4 1 6", "Sheet 5 4 1 6",
+                    "sheet 5 4 1 06", "sheet 05 4 1 6", "sheet +5 4 1 6", "sheet 5 4 1 -0", "sheet 5 4 1 x",
+                    "sheet 5 4 1 ", "sheet 5 4  6",
+                    "sheet 5 4 1 6.0", "sheet5 4 1 6", "sheet 10000000 4 1 6", "sheet 00000005 4 1 6", "text 0 0 x",
+                    "all 0", "5 4 1 6",
+                    "sheet 0 4 1 6", "sheet 5 0 1 6", "sheet 5 4 0 6", "sheet 5 4 1 0", "sheet 5 4 61 6",
+                    "sheet 5 4 1 61",
+                    "sheet 1000001 4 1 6", "sheet 5 1001 1 6", "sheet -5 4 1 6", "sheet 5 4 1 -6",
+                    "sheet 9999999 4 1 6"):
             self.check(row + "\n", 0)
             self.check(row + "\ntext 0 0 a\n", 0)
             self.check(row, 0)
@@ -174,23 +185,35 @@ class NoPages(unittest.TestCase):
         self.check(FIRST + "\ntext 0 0 a\n", 1)
 
     def test_rows_not_so_written(self):
-        for row in ("", " ", "text", "text 0", "text 0 0", "text 0  a", "text  0 a", "text x 0 a", " text 0 0 a", "Text 0 0 a", "text 00 0 a",
-                    "text 0 -0 a", "text 0 12345678 a", "text +0 0 a", "look 0 0 left top", "look 0 0 left top ", "look 0 0 left top True",
-                    "look 0 0 left top wrap ", "look 0 0 left top wrap wrap", "look 0 0 left top Wrap", "look 0 0 left wrap",
-                    "look 0 x left top wrap", "merge 0 0 2", "merge 0 0 2 2 ", "merge 0 0 2 2 2", "merge 0 0 2 02", "part 0", "part 0 0 0",
-                    "part 0 0 ", "size row 0", "size row 0 1 2", "size row x 1", "size row 0 ", "size 0 1", "common row", "common row 0 0",
-                    "hide row 0", "show row 0", "put row 0", "cut row 0", "hide row 0 1 ", "fit row", "fit row ", "fit row 0 ", "hold 1",
-                    "hold 1 1 1", "hold 1  1", "screen 5", "screen", "scroll", "scroll 0", "caret", "caret 0 0 0", "go down", "go down x",
-                    "go down 1 ", "go down  1", "undo", "redo", "hit 0 0", "places 0 0", "steps", "sheet 5 4 1 6", "all", "all ", "all x", "all -1",
+        for row in ("", " ", "text", "text 0", "text 0 0", "text 0  a", "text  0 a", "text x 0 a", " text 0 0 a",
+                    "Text 0 0 a", "text 00 0 a",
+                    "text 0 -0 a", "text 0 12345678 a", "text +0 0 a", "look 0 0 left top", "look 0 0 left top ",
+                    "look 0 0 left top True",
+                    "look 0 0 left top wrap ", "look 0 0 left top wrap wrap", "look 0 0 left top Wrap",
+                    "look 0 0 left wrap",
+                    "look 0 x left top wrap", "merge 0 0 2", "merge 0 0 2 2 ", "merge 0 0 2 2 2", "merge 0 0 2 02",
+                    "part 0", "part 0 0 0",
+                    "part 0 0 ", "size row 0", "size row 0 1 2", "size row x 1", "size row 0 ", "size 0 1",
+                    "common row", "common row 0 0",
+                    "hide row 0", "show row 0", "put row 0", "cut row 0", "hide row 0 1 ", "fit row", "fit row ",
+                    "fit row 0 ", "hold 1",
+                    "hold 1 1 1", "hold 1  1", "screen 5", "screen", "scroll", "scroll 0", "caret", "caret 0 0 0",
+                    "go down", "go down x",
+                    "go down 1 ", "go down  1", "undo", "redo", "hit 0 0", "places 0 0", "steps", "sheet 5 4 1 6",
+                    "all", "all ", "all x", "all -1",
                     "all 00", "all 1 1", "all -0", "all 0 ", " all 0", "all 12345678", "done", "text\t0 0 a"):
             self.check(FIRST + row + "\n", 1)
             self.check(FIRST + "go down 1\n" + row + "\ntext 0 0 a\n", 2)
 
     def test_rows_that_are_refused(self):
-        for row in ("text 5 0 a", "text -1 0 a", "text 0 0 " + "x" * 41, "look 0 0 no top wrap", "look 0 0  top wrap", "look 0 0   wrap",
-                    "merge 0 0 1 1", "merge 0 0 9 9", "part 0 0", "size no 0 1", "size  0 1", "size row 5 1", "size row 0 61", "common no 0",
-                    "hide row 0 6", "show row 0 0", "put row 6 1", "put row 0 1001", "cut row 0 5", "fit  0", "hold 6 0", "hold -1 0",
-                    "screen 31 1", "scroll 1 0", "scroll -1 0", "caret 5 0", "go no 1", "go  1", "go down 0", "go down 100", "caret 9999999 0",
+        for row in ("text 5 0 a", "text -1 0 a", "text 0 0 " + "x" * 41, "look 0 0 no top wrap", "look 0 0  top wrap",
+                    "look 0 0   wrap",
+                    "merge 0 0 1 1", "merge 0 0 9 9", "part 0 0", "size no 0 1", "size  0 1", "size row 5 1",
+                    "size row 0 61", "common no 0",
+                    "hide row 0 6", "show row 0 0", "put row 6 1", "put row 0 1001", "cut row 0 5", "fit  0",
+                    "hold 6 0", "hold -1 0",
+                    "screen 31 1", "scroll 1 0", "scroll -1 0", "caret 5 0", "go no 1", "go  1", "go down 0",
+                    "go down 100", "caret 9999999 0",
                     "caret -9999999 0"):
             self.check(FIRST + row + "\n", 1)
             self.check(FIRST + "all 0\ngo down 1\n" + row + "\nno\n", 3)

@@ -18,8 +18,10 @@ SOME = (("text", 3, 0, "a"), ("put", "row", 0, 1), ("text", 4, 0, "b"), ("go", "
 # A deed that is refused behind BEGUN for each class that there is.
 REFUSED = [
     (("size", "row", 0, 61), "BadSize"), (("merge", 0, 0, 1, 1), "BadMany"), (("go", "up", 100), "BadMany"),
-    (("text", 0, 0, "x" * 41), "BadText"), (("look", 0, 0, "no", "top", True), "BadLook"), (("fit", "no", 0), "BadAxis"),
-    (("hold", 6, 0), "BadHold"), (("screen", 31, 1), "BadScreen"), (("scroll", -1, 0), "BadScroll"), (("go", "no", 1), "BadWay"),
+    (("text", 0, 0, "x" * 41), "BadText"), (("look", 0, 0, "no", "top", True), "BadLook"),
+    (("fit", "no", 0), "BadAxis"),
+    (("hold", 6, 0), "BadHold"), (("screen", 31, 1), "BadScreen"), (("scroll", -1, 0), "BadScroll"),
+    (("go", "no", 1), "BadWay"),
     (("part", 0, 0), "NotMerged"), (("text", 2, 2, "x"), "Inside"), (("merge", 0, 0, 2, 2), "Overlap"),
     (("caret", 5, 0), "NoCell"), (("cut", "row", 5, 1), "NoIndex"), (("put", "column", 0, 1000), "Full"),
 ]
@@ -101,7 +103,8 @@ class Refused(ComparedViews):
 
     def test_the_first_one_counts(self):
         view = view_of(5, 5, BEGUN)
-        self.assertEqual(refused(view.do, ("all", (("caret", 0, 0), ("part", 0, 0), ("caret", 9, 9)))), ("BadStep", (1, "NotMerged")))
+        self.assertEqual(refused(view.do, ("all", (("caret", 0, 0), ("part", 0, 0), ("caret", 9, 9)))),
+                         ("BadStep", (1, "NotMerged")))
 
     def test_an_all_within(self):
         within = ("all", (("text", 0, 0, "x"),))
@@ -184,7 +187,8 @@ class ByName(unittest.TestCase):
 
     def test_defaults(self):
         told = {name: each.default for name, each in inspect.signature(View.look).parameters.items()}
-        self.assertEqual({name: told[name] for name in ("side", "height", "wrap")}, {"side": "left", "height": "top", "wrap": False})
+        self.assertEqual({name: told[name] for name in ("side", "height", "wrap")},
+                         {"side": "left", "height": "top", "wrap": False})
         self.assertEqual((SIDES[0], HEIGHTS[0]), ("left", "top"))
 
     def test_full_of_looks(self):

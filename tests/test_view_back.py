@@ -13,8 +13,10 @@ from test_view_runs import some_step
 DEEDS = [
     ("text", 0, 0, "first"), ("look", 0, 0, "right", "top", True), ("merge", 1, 1, 2, 2), ("text", 1, 1, "box"),
     ("size", "row", 0, 2), ("common", "row", 0), ("hide", "column", 3, 1), ("show", "column", 2, 2), ("screen", 4, 9),
-    ("hold", 1, 1), ("caret", 4, 4), ("put", "row", 2, 2), ("cut", "column", 0, 1), ("fit", "column", 0), ("part", 1, 0),
-    ("scroll", 0, 1), ("go", "up", 2), ("all", (("text", 0, 0, "x"), ("scroll", 0, 0))), ("text", 0, 0, ""), ("all", ()),
+    ("hold", 1, 1), ("caret", 4, 4), ("put", "row", 2, 2), ("cut", "column", 0, 1), ("fit", "column", 0),
+    ("part", 1, 0),
+    ("scroll", 0, 1), ("go", "up", 2), ("all", (("text", 0, 0, "x"), ("scroll", 0, 0))), ("text", 0, 0, ""),
+    ("all", ()),
 ]
 
 
@@ -116,7 +118,8 @@ class Back(ComparedViews):
     def test_back_to_another_screen(self):
         view = view_of(5, 5, [("text", 0, 0, "abc"), ("screen", 1, 2)])
         view.undo()
-        self.assertEqual((view.laid(), view.steps()), ([(0, 0, 1, 1)], [("put", 0, 0, "abc")] + [("put", v, 0, "~" * 30) for v in range(5, 10)]))
+        self.assertEqual(view.laid(), [(0, 0, 1, 1)])
+        self.assertEqual(view.steps(), [("put", 0, 0, "abc")] + [("put", v, 0, "~" * 30) for v in range(5, 10)])
 
     def test_all_back_and_all_again(self):
         for seed in range(25):
@@ -162,7 +165,8 @@ class OneStand(unittest.TestCase):
         ([("screen", 3, 5), ("hold", 1, 1)], [("hold", 1, 1), ("screen", 3, 5)]),
         ([("screen", 3, 5), ("scroll", 2, 7), ("scroll", 1, 1)], [("screen", 3, 5), ("scroll", 1, 1)]),
         ([("all", (("text", 0, 0, "a"), ("hold", 1, 1)))], [("text", 0, 0, "a"), ("hold", 1, 1)]),
-        ([("screen", 3, 5), ("caret", 4, 4), ("scroll", 0, 0), ("go", "right", 1)], [("screen", 3, 5), ("caret", 4, 4)]),
+        ([("screen", 3, 5), ("caret", 4, 4), ("scroll", 0, 0), ("go", "right", 1)],
+         [("screen", 3, 5), ("caret", 4, 4)]),
         ([("text", 0, 0, "abc"), ("fit", "column", 0)], [("size", "column", 0, 3), ("text", 0, 0, "abc")]),
         ([("look", 0, 0, "right", "top", True), ("look", 0, 0, "left", "top", False)], [("all", ())]),
     ]
@@ -178,11 +182,13 @@ class OneStand(unittest.TestCase):
     def test_what_follows_is_the_same(self):
         for one, other in self.WAYS:
             left, right = view_of(5, 5, one), view_of(5, 5, other)
-            for deed in (("text", 3, 3, "x"), ("put", "row", 1, 1), ("screen", 3, 9), ("go", "down", 2), ("scroll", 1, 1)):
+            for deed in (("text", 3, 3, "x"), ("put", "row", 1, 1), ("screen", 3, 9), ("go", "down", 2),
+                         ("scroll", 1, 1)):
                 left.do(deed)
                 right.do(deed)
                 self.assertEqual(left, right)
-                self.assertEqual((left.laid(), left.steps(), left.drawing()), (right.laid(), right.steps(), right.drawing()))
+                self.assertEqual((left.laid(), left.steps(), left.drawing()),
+                                 (right.laid(), right.steps(), right.drawing()))
 
 
 if __name__ == "__main__":

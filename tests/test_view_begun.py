@@ -33,7 +33,8 @@ class AlwaysEqual:
 
 class Begun(unittest.TestCase):
     def check(self, view, sheet, high, wide):
-        self.assertEqual((view.size(), view.hold(), view.scroll(), view.caret()), ((high, wide), (0, 0), (0, 0), (0, 0)))
+        self.assertEqual((view.size(), view.hold(), view.scroll(), view.caret()),
+                         ((high, wide), (0, 0), (0, 0), (0, 0)))
         self.assertEqual(view.sheet(), sheet)
         self.assertEqual(view.deeds(), [])
         for turn in (view.undo, view.redo):
@@ -71,7 +72,8 @@ class Begun(unittest.TestCase):
                     View(Sheet(), high=high, wide=wide)
 
     def test_of_sheets_with_deeds(self):
-        for deeds in ([("merge", 0, 0, 2, 2), ("text", 0, 0, "x")], [("hide", "row", 0, 5)], [("hide", "column", 0, 4)]):
+        for deeds in ([("merge", 0, 0, 2, 2), ("text", 0, 0, "x")], [("hide", "row", 0, 5)],
+                      [("hide", "column", 0, 4)]):
             sheet = Sheet(5, 4)
             for deed in deeds:
                 sheet.do(deed)
@@ -81,7 +83,8 @@ class Begun(unittest.TestCase):
         view = view_of(3, 3, wide=2, screen=(4, 8))
         self.assertEqual(view.drawing(), ["      ~~"] * 3 + ["~~~~~~~~"])
         self.assertEqual(view.laid(), [])
-        self.assertEqual(view.steps(), [("put", 0, 6, "~~"), ("put", 1, 6, "~~"), ("put", 2, 6, "~~"), ("put", 3, 0, "~~~~~~~~")])
+        self.assertEqual(view.steps(), [("put", 0, 6, "~~"), ("put", 1, 6, "~~"), ("put", 2, 6, "~~"),
+                                        ("put", 3, 0, "~~~~~~~~")])
         sheet = Sheet(9, 9, wide=3)
         for deed in (("text", 2, 1, "ab"), ("text", 0, 1, "c d"), ("text", 8, 8, "far"), ("merge", 2, 1, 2, 2)):
             sheet.do(deed)
@@ -92,7 +95,8 @@ class Begun(unittest.TestCase):
 
     def test_names_of_the_class(self):
         self.assertEqual(module.View.__module__, "gridscope.view")
-        for name in ("__eq__", "__len__", "__repr__", "__str__", "do", "look", "together", "undo", "redo", "deeds", "sheet",
+        for name in ("__eq__", "__len__", "__repr__", "__str__", "do", "look", "together", "undo", "redo", "deeds",
+                     "sheet",
                      "size", "hold", "scroll", "caret", "drawing", "laid", "steps", "point", "hit", "places", "twin"):
             self.assertIn(name, vars(View))
 
@@ -112,7 +116,8 @@ class Shown(unittest.TestCase):
         deeds = [("text", row, column, "x") for row in range(5) for column in range(5)]
         view = view_of(5, 5, deeds, wide=2, screen=(3, 5))
         self.assertEqual(len(view), 9)
-        for deed, due in ((("screen", 3, 6), 9), (("screen", 3, 7), 12), (("screen", 30, 60), 25), (("hide", "row", 0, 2), 15),
+        for deed, due in ((("screen", 3, 6), 9), (("screen", 3, 7), 12), (("screen", 30, 60), 25),
+                          (("hide", "row", 0, 2), 15),
                           (("merge", 2, 0, 2, 2), 12), (("hide", "column", 0, 5), 0), (("hide", "row", 0, 5), 0)):
             view.do(deed)
             self.assertEqual(len(view), due)
@@ -155,7 +160,8 @@ class SheetsApart(unittest.TestCase):
         for deed in BEGUN:
             one.do(deed)
             self.assertEqual(told(other), kept)
-        self.assertEqual((one.sheet().text(0, 0), other.sheet().text(0, 0), sheet.text(0, 0)), ("first", "both", "both"))
+        self.assertEqual((one.sheet().text(0, 0), other.sheet().text(0, 0), sheet.text(0, 0)),
+                         ("first", "both", "both"))
         self.assertEqual(View(sheet), View(sheet))
 
 
@@ -181,8 +187,10 @@ class Equal(unittest.TestCase):
             self.check_other(view_of(6, 5, BEGUN), view_of(6, 5, BEGUN + [deed]))
 
     def test_deeds_and_what_was_laid_do_not_count(self):
-        for more in ([("scroll", 1, 3), ("scroll", 2, 3)], [("text", 0, 0, "x"), ("text", 0, 0, "first")], [("all", ())],
-                     [("hold", 1, 1)], [("hide", "row", 5, 1), ("show", "row", 5, 1)], [("put", "row", 6, 3), ("cut", "row", 6, 3)]):
+        for more in ([("scroll", 1, 3), ("scroll", 2, 3)], [("text", 0, 0, "x"), ("text", 0, 0, "first")],
+                     [("all", ())],
+                     [("hold", 1, 1)], [("hide", "row", 5, 1), ("show", "row", 5, 1)],
+                     [("put", "row", 6, 3), ("cut", "row", 6, 3)]):
             self.check_equal(view_of(6, 5, BEGUN), view_of(6, 5, BEGUN + more))
         view = view_of(6, 5, BEGUN + [("text", 0, 0, "x")])
         view.undo()

@@ -1,4 +1,4 @@
-"""The caret: it goes, is shown by the least scroll, and goes along with rows and columns: points [13], [14] and [16]."""
+"""The caret: it goes, is shown by the least scroll, goes along with rows and columns: points [13], [14], [16]."""
 
 import itertools
 import random
@@ -33,9 +33,12 @@ class Goes(ComparedViews):
 
     def test_by_hand(self):
         for start, way, many, due in (
-            ((2, 2), "down", 1, (3, 2)), ((2, 2), "up", 1, (1, 2)), ((2, 2), "right", 1, (2, 3)), ((2, 2), "left", 1, (2, 1)),
-            ((2, 2), "down", 3, (5, 2)), ((2, 2), "down", 4, (5, 2)), ((2, 2), "down", 99, (5, 2)), ((2, 2), "up", 99, (0, 2)),
-            ((2, 2), "right", 99, (2, 5)), ((2, 2), "left", 99, (2, 0)), ((0, 0), "up", 1, (0, 0)), ((0, 0), "left", 1, (0, 0)),
+            ((2, 2), "down", 1, (3, 2)), ((2, 2), "up", 1, (1, 2)), ((2, 2), "right", 1, (2, 3)),
+            ((2, 2), "left", 1, (2, 1)),
+            ((2, 2), "down", 3, (5, 2)), ((2, 2), "down", 4, (5, 2)), ((2, 2), "down", 99, (5, 2)),
+            ((2, 2), "up", 99, (0, 2)),
+            ((2, 2), "right", 99, (2, 5)), ((2, 2), "left", 99, (2, 0)), ((0, 0), "up", 1, (0, 0)),
+            ((0, 0), "left", 1, (0, 0)),
             ((5, 5), "down", 1, (5, 5)), ((5, 5), "right", 1, (5, 5)),
         ):
             self.assertEqual(self.carets([("caret", *start)], ("go", way, many)), due)
@@ -43,10 +46,14 @@ class Goes(ComparedViews):
     def test_through_merged_boxes(self):
         boxes = [("merge", 1, 1, 2, 3), ("merge", 3, 0, 1, 2), ("merge", 4, 1, 2, 2)]
         for start, way, many, due in (
-            ((0, 2), "down", 1, (1, 1)), ((0, 2), "down", 2, (3, 0)), ((0, 2), "down", 3, (4, 0)), ((2, 3), "down", 1, (3, 0)),
-            ((3, 2), "down", 1, (4, 1)), ((3, 2), "down", 2, (4, 1)), ((2, 0), "right", 1, (1, 1)), ((2, 0), "right", 2, (1, 4)),
-            ((1, 5), "left", 2, (1, 1)), ((2, 5), "left", 2, (1, 1)), ((2, 5), "left", 3, (1, 0)), ((5, 3), "left", 1, (4, 1)),
-            ((5, 3), "left", 2, (4, 0)), ((5, 2), "up", 1, (3, 0)), ((5, 2), "up", 2, (2, 0)), ((3, 3), "up", 1, (1, 1)),
+            ((0, 2), "down", 1, (1, 1)), ((0, 2), "down", 2, (3, 0)), ((0, 2), "down", 3, (4, 0)),
+            ((2, 3), "down", 1, (3, 0)),
+            ((3, 2), "down", 1, (4, 1)), ((3, 2), "down", 2, (4, 1)), ((2, 0), "right", 1, (1, 1)),
+            ((2, 0), "right", 2, (1, 4)),
+            ((1, 5), "left", 2, (1, 1)), ((2, 5), "left", 2, (1, 1)), ((2, 5), "left", 3, (1, 0)),
+            ((5, 3), "left", 1, (4, 1)),
+            ((5, 3), "left", 2, (4, 0)), ((5, 2), "up", 1, (3, 0)), ((5, 2), "up", 2, (2, 0)),
+            ((3, 3), "up", 1, (1, 1)),
             ((3, 3), "up", 2, (0, 1)),
         ):
             self.assertEqual(self.carets(boxes + [("caret", *start)], ("go", way, many)), due, (start, way, many))
@@ -58,7 +65,8 @@ class Goes(ComparedViews):
                 self.assertEqual(self.carets(deeds, ("go", way, many))[side], due)
 
     def test_nothing_that_counts(self):
-        for axis, stays, goes in (("row", ("up", "down"), ("left", "right")), ("column", ("left", "right"), ("up", "down"))):
+        for axis, stays, goes in (("row", ("up", "down"), ("left", "right")),
+                                  ("column", ("left", "right"), ("up", "down"))):
             deeds = [("caret", 2, 2), ("hide", axis, 0, 6)]
             for way in stays:
                 self.assertEqual(self.carets(deeds, ("go", way, 1)), (2, 2))
@@ -97,7 +105,8 @@ class Goes(ComparedViews):
             self.assertEqual(self.check(view, plain, ("go", way, many)), "BadMany")
 
     def test_every_cell_and_way(self):
-        deeds = [("merge", 1, 1, 2, 3), ("merge", 3, 0, 1, 2), ("hide", "row", 4, 1), ("hide", "column", 2, 1), ("hold", 1, 1)]
+        deeds = [("merge", 1, 1, 2, 3), ("merge", 3, 0, 1, 2), ("hide", "row", 4, 1), ("hide", "column", 2, 1),
+                 ("hold", 1, 1)]
         view, plain = view_pair(6, 6, deeds, wide=3, screen=(3, 8))
         for row, column, way, many in itertools.product(range(6), range(6), ("down", "up", "left", "right"), (1, 2)):
             for deed in (("caret", row, column), ("go", way, many)):
@@ -205,7 +214,8 @@ class Shown(ComparedViews):
         self.check_shown([("scroll", 3, 4)], ("go", "left", 9), (0, 0))
 
     def test_other_deeds_do_not_show_it(self):
-        for deed in (("scroll", 9, 9), ("text", 0, 0, "x"), ("put", "row", 0, 9), ("hold", 1, 1), ("size", "row", 0, 9)):
+        for deed in (("scroll", 9, 9), ("text", 0, 0, "x"), ("put", "row", 0, 9), ("hold", 1, 1),
+                     ("size", "row", 0, 9)):
             view = view_of(20, 20, [("caret", 2, 2), ("scroll", 9, 9), deed], wide=3, screen=(5, 12))
             self.assertEqual(view.scroll(), (9, 9))
 
@@ -213,7 +223,8 @@ class Shown(ComparedViews):
         deeds = [("merge", 1, 1, 2, 2), ("merge", 4, 4, 3, 3), ("size", "row", 3, 4), ("hide", "column", 5, 1)]
         for rows, columns in ((0, 0), (1, 0), (0, 2), (2, 2), (4, 4)):
             view, plain = view_pair(8, 8, deeds + [("hold", rows, columns)], wide=3, screen=(5, 11))
-            stands = itertools.product(range(plain.stand.greatest(0) + 1), range(0, plain.stand.greatest(1) + 1, 3), range(8), range(8))
+            stands = itertools.product(range(plain.stand.greatest(0) + 1), range(0, plain.stand.greatest(1) + 1, 3),
+                                       range(8), range(8))
             for number, (down, across, row, column) in enumerate(stands):
                 if number % 3:
                     continue
@@ -239,7 +250,8 @@ class Shown(ComparedViews):
 
 class GoesAlong(ComparedViews):
     def check_moved(self, begun, deed, due):
-        for deeds, last, cell in ((begun, deed, due), ([exchanged(each) for each in begun], exchanged(deed), due[::-1])):
+        for deeds, last, cell in ((begun, deed, due), ([exchanged(each) for each in begun], exchanged(deed),
+                                                       due[::-1])):
             view = view_of(8, 8, deeds)
             view.do(last)
             self.assertEqual(view.caret(), cell, (deeds, last))
@@ -250,7 +262,8 @@ class GoesAlong(ComparedViews):
 
     def test_put_in_through_a_box(self):
         for number in range(9):
-            self.check_moved([("merge", 3, 2, 3, 2), ("caret", 4, 3)], ("put", "row", number, 2), (5 if number <= 3 else 3, 2))
+            self.check_moved([("merge", 3, 2, 3, 2), ("caret", 4, 3)], ("put", "row", number, 2),
+                             (5 if number <= 3 else 3, 2))
 
     def test_cut_out(self):
         for number, many in itertools.product(range(8), range(1, 8)):
@@ -265,7 +278,8 @@ class GoesAlong(ComparedViews):
 
     def test_cut_through_its_box(self):
         box = [("merge", 3, 2, 3, 2), ("caret", 4, 3)]
-        for number, many, due in ((3, 1, 3), (3, 2, 3), (2, 2, 2), (1, 4, 1), (4, 1, 3), (5, 3, 3), (4, 4, 3), (3, 3, 3),
+        for number, many, due in ((3, 1, 3), (3, 2, 3), (2, 2, 2), (1, 4, 1), (4, 1, 3), (5, 3, 3), (4, 4, 3),
+                                  (3, 3, 3),
                                   (2, 5, 2), (0, 1, 2), (0, 3, 0), (6, 2, 3)):
             self.check_moved(box, ("cut", "row", number, many), (due, 2))
 

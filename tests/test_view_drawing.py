@@ -49,7 +49,8 @@ class ByHand(unittest.TestCase):
         deeds = [("merge", 1, 1, 3, 3), ("text", 1, 1, "one two three"), ("look", 1, 1, "middle", "middle", True)]
         view = view_of(6, 6, deeds, wide=2, screen=(3, 4))
         # Six signs wide: the lines are "one", "two", "three", one on each of its rows.
-        for scroll, due in (((0, 0), ["    ", "   o", "   t"]), ((1, 2), [" one", " two", "thre"]), ((2, 4), ["wo  ", "ree ", "    "]),
+        for scroll, due in (((0, 0), ["    ", "   o", "   t"]), ((1, 2), [" one", " two", "thre"]),
+                            ((2, 4), ["wo  ", "ree ", "    "]),
                             ((3, 8), ["    ", "    ", "    "])):
             view.do(("scroll", *scroll))
             self.assertEqual(view.drawing(), due)
@@ -76,10 +77,12 @@ class ByHand(unittest.TestCase):
 
 class Drawings(ComparedViews):
     def test_every_scroll_and_hold(self):
-        deeds = named_cells(5, 5) + [("merge", 1, 1, 2, 2), ("merge", 0, 3, 3, 1), ("size", "row", 2, 3), ("hide", "column", 2, 1)]
+        deeds = named_cells(5, 5) + [("merge", 1, 1, 2, 2), ("merge", 0, 3, 3, 1), ("size", "row", 2, 3),
+                                     ("hide", "column", 2, 1)]
         for rows, columns in itertools.product(range(0, 4), repeat=2):
             view, plain = view_pair(5, 5, deeds + [("hold", rows, columns)], wide=3, screen=(5, 7))
-            for down, across in itertools.product(range(plain.stand.greatest(0) + 1), range(plain.stand.greatest(1) + 1)):
+            for down, across in itertools.product(range(plain.stand.greatest(0) + 1),
+                                                  range(plain.stand.greatest(1) + 1)):
                 view.do(("scroll", down, across))
                 plain.do(("scroll", down, across))
                 self.assertEqual(view.drawing(), plain.stand.drawing())
@@ -95,7 +98,8 @@ class Drawings(ComparedViews):
 
     def test_every_look(self):
         for look in LOOKS:
-            deeds = [("merge", 1, 1, 3, 2), ("text", 1, 1, "of several words and a longlonglong one"), ("look", 1, 1, *look)]
+            deeds = [("merge", 1, 1, 3, 2), ("text", 1, 1, "of several words and a longlonglong one"),
+                     ("look", 1, 1, *look)]
             view, plain = view_pair(5, 5, deeds + [("hold", 0, 2)], wide=4, screen=(3, 10))
             for down, across in itertools.product(range(3), range(11)):
                 view.do(("scroll", down, across))
@@ -156,7 +160,7 @@ class StillAndShown(unittest.TestCase):
             far.do(("scroll", 900000 + down, 4500 + across))
             self.assertEqual(far.drawing(), near.drawing())
             self.assertEqual(far.steps(), near.steps())
-            self.assertEqual(far.laid(), [(row + 900000, column + 900, high, wide) for row, column, high, wide in near.laid()])
+            self.assertEqual(far.laid(), [(box[0] + 900000, box[1] + 900, *box[2:]) for box in near.laid()])
 
     def test_the_last_rows(self):
         view = view_of(1000000, 1000, [("text", 999999, 999, "end"), ("caret", 999999, 999)])
@@ -189,7 +193,8 @@ def moved(deed):
 class Laid(ComparedViews):
     """Which boxes are laid behind each deed."""
 
-    BEGUN = [("text", 0, 0, "ab"), ("text", 1, 1, "cd"), ("text", 3, 2, "ef"), ("text", 8, 1, "gh"), ("merge", 3, 2, 2, 2),
+    BEGUN = [("text", 0, 0, "ab"), ("text", 1, 1, "cd"), ("text", 3, 2, "ef"), ("text", 8, 1, "gh"),
+             ("merge", 3, 2, 2, 2),
              ("merge", 5, 0, 2, 2), ("text", 5, 0, "ij")]
 
     def check_laid(self, deeds, due, screen=(5, 12), wide=3):
@@ -285,7 +290,8 @@ class Laid(ComparedViews):
     def test_stays_where_a_deed_is_refused(self):
         view = view_of(10, 8, self.BEGUN + [("text", 0, 0, "xy")], wide=3, screen=(5, 12))
         kept = (view.laid(), view.steps())
-        for deed in (("text", 99, 0, "x"), ("scroll", -1, 0), ("go", "no", 1), ("all", (("text", 1, 1, "x"), ("part", 0, 0))),
+        for deed in (("text", 99, 0, "x"), ("scroll", -1, 0), ("go", "no", 1),
+                     ("all", (("text", 1, 1, "x"), ("part", 0, 0))),
                      ("all", (("all", ()),)), ("screen", 0, 0), ("hold", 9, 9), ("size", "no", 0, 1)):
             with self.assertRaises((ValueError, LookupError)):
                 view.do(deed)

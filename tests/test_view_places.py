@@ -7,7 +7,8 @@ from compared_views import ComparedViews, view_of, view_pair
 from gridscope.errors import NoCell, NoPlace
 
 FAR = 10 ** 29
-BEGUN = [("merge", 1, 1, 2, 2), ("merge", 0, 3, 4, 1), ("size", "row", 2, 3), ("hide", "column", 2, 1), ("size", "column", 4, 5)]
+BEGUN = [("merge", 1, 1, 2, 2), ("merge", 0, 3, 4, 1), ("size", "row", 2, 3), ("hide", "column", 2, 1),
+         ("size", "column", 4, 5)]
 
 
 class Points(unittest.TestCase):
@@ -33,11 +34,13 @@ class Points(unittest.TestCase):
     def test_beyond_the_sheet(self):
         view = view_of(3, 2)
         self.assertEqual(view.point(9, 29), (9, 29))
-        self.assertEqual([view.hit(*place) for place in ((2, 11), (3, 11), (2, 12), (9, 29))], [(2, 1, 1, 1), None, None, None])
+        self.assertEqual([view.hit(*place) for place in ((2, 11), (3, 11), (2, 12), (9, 29))],
+                         [(2, 1, 1, 1), None, None, None])
 
     def test_no_places(self):
         view = view_of(20, 9, [("screen", 4, 7)])
-        for v, u in ((-1, 0), (0, -1), (4, 0), (0, 7), (4, 7), (-4, -7), (FAR, 0), (0, FAR), (-FAR, -FAR), (3, 7), (4, 6)):
+        for v, u in ((-1, 0), (0, -1), (4, 0), (0, 7), (4, 7), (-4, -7), (FAR, 0), (0, FAR), (-FAR, -FAR), (3, 7),
+                     (4, 6)):
             for ask in (view.point, view.hit):
                 with self.assertRaises(NoPlace):
                     ask(v, u)
@@ -47,15 +50,18 @@ class Points(unittest.TestCase):
 class Hits(ComparedViews):
     def test_by_hand(self):
         view = view_of(6, 6, BEGUN + [("hold", 1, 1), ("scroll", 1, 1)], wide=3, screen=(5, 9))
-        for place, due in (((0, 0), (0, 0, 1, 1)), ((0, 3), (0, 1, 1, 1)), ((0, 5), (0, 3, 4, 1)), ((0, 8), (0, 4, 1, 1)),
-                           ((1, 0), (2, 0, 1, 1)), ((1, 3), (1, 1, 2, 2)), ((4, 4), (3, 1, 1, 1)), ((3, 5), (0, 3, 4, 1)),
+        for place, due in (((0, 0), (0, 0, 1, 1)), ((0, 3), (0, 1, 1, 1)), ((0, 5), (0, 3, 4, 1)),
+                           ((0, 8), (0, 4, 1, 1)),
+                           ((1, 0), (2, 0, 1, 1)), ((1, 3), (1, 1, 2, 2)), ((4, 4), (3, 1, 1, 1)),
+                           ((3, 5), (0, 3, 4, 1)),
                            ((4, 8), (3, 4, 1, 1))):
             self.assertEqual(view.hit(*place), due, place)
 
     def test_every_scroll_hold_and_place(self):
         for rows, columns in itertools.product(range(4), repeat=2):
             view, plain = view_pair(6, 6, BEGUN + [("hold", rows, columns)], wide=3, screen=(5, 9))
-            for down, across in itertools.product(range(plain.stand.greatest(0) + 1), range(plain.stand.greatest(1) + 1)):
+            for down, across in itertools.product(range(plain.stand.greatest(0) + 1),
+                                                  range(plain.stand.greatest(1) + 1)):
                 view.do(("scroll", down, across))
                 plain.do(("scroll", down, across))
                 hits = plain.stand.hits()
@@ -79,7 +85,8 @@ class Hits(ComparedViews):
 class Places(ComparedViews):
     def test_by_hand(self):
         view = view_of(6, 6, BEGUN, wide=3, screen=(5, 9))
-        for cell, due in (((0, 0), [(0, 0, 1, 3)]), ((1, 1), [(1, 3, 4, 3)]), ((2, 2), [(1, 3, 4, 3)]), ((3, 3), [(0, 6, 5, 3)]),
+        for cell, due in (((0, 0), [(0, 0, 1, 3)]), ((1, 1), [(1, 3, 4, 3)]), ((2, 2), [(1, 3, 4, 3)]),
+                          ((3, 3), [(0, 6, 5, 3)]),
                           ((0, 2), []), ((0, 4), []), ((5, 0), []), ((2, 0), [(2, 0, 3, 3)])):
             self.assertEqual(view.places(*cell), due, cell)
 
@@ -98,12 +105,14 @@ class Places(ComparedViews):
 
     def test_hidden_cells(self):
         view = view_of(6, 6, [("hide", "row", 1, 1), ("merge", 3, 3, 2, 2), ("hide", "row", 3, 2)], wide=3)
-        self.assertEqual([view.places(1, 0), view.places(3, 3), view.places(4, 4), view.places(2, 0)], [[], [], [], [(1, 0, 1, 3)]])
+        self.assertEqual([view.places(1, 0), view.places(3, 3), view.places(4, 4), view.places(2, 0)],
+                         [[], [], [], [(1, 0, 1, 3)]])
 
     def test_every_cell_scroll_and_hold(self):
         for rows, columns in itertools.product(range(3), repeat=2):
             view, plain = view_pair(6, 6, BEGUN + [("hold", rows, columns)], wide=3, screen=(5, 9))
-            for down, across in itertools.product(range(plain.stand.greatest(0) + 1), range(0, plain.stand.greatest(1) + 1, 2)):
+            for down, across in itertools.product(range(plain.stand.greatest(0) + 1),
+                                                  range(0, plain.stand.greatest(1) + 1, 2)):
                 view.do(("scroll", down, across))
                 plain.do(("scroll", down, across))
                 for cell in itertools.product(range(6), repeat=2):

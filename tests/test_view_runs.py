@@ -18,10 +18,12 @@ def some_screen_deed(chance, plain):
         return (word, chance.choice((1, 2, 4, 6, 9, 12, 0, 31)), chance.choice((1, 3, 5, 8, 14, 20, 0, 61)))
     if word == "scroll":
         beyond = int(chance.random() < 0.1)
-        return (word, chance.randint(-beyond, stand.greatest(0) + beyond), chance.randint(-beyond, stand.greatest(1) + beyond))
+        return (word, chance.randint(-beyond, stand.greatest(0) + beyond),
+                chance.randint(-beyond, stand.greatest(1) + beyond))
     if word == "caret":
         return (word, chance.randint(-1, stand.count(0)), chance.randint(-1, stand.count(1)))
-    return (word, chance.choice(("down", "up", "right", "left", "down", "right", "no")), chance.choice((1, 1, 1, 2, 3, 99, 0, 100)))
+    return (word, chance.choice(("down", "up", "right", "left", "down", "right", "no")),
+            chance.choice((1, 1, 1, 2, 3, 99, 0, 100)))
 
 
 def some_deed(chance, plain):

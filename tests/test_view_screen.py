@@ -25,7 +25,8 @@ class Holds(ComparedViews):
 
     def test_brought_to_the_count(self):
         view = view_of(7, 7, [("hold", 5, 4)])
-        for deed, due in ((("cut", "row", 0, 2), (5, 4)), (("cut", "row", 0, 1), (4, 4)), (("cut", "column", 1, 5), (4, 2)),
+        for deed, due in ((("cut", "row", 0, 2), (5, 4)), (("cut", "row", 0, 1), (4, 4)),
+                          (("cut", "column", 1, 5), (4, 2)),
                           (("cut", "row", 1, 3), (1, 2)), (("put", "row", 0, 9), (1, 2))):
             view.do(deed)
             self.assertEqual(view.hold(), due)
@@ -76,11 +77,14 @@ class Scrolls(ComparedViews):
 
     def test_greatest(self):
         for deeds, due in (
-            ([], (10, 18)), ([("screen", 20, 48)], (0, 0)), ([("screen", 30, 60)], (0, 0)), ([("screen", 19, 47)], (1, 1)),
-            ([("screen", 1, 1)], (19, 47)), ([("hold", 5, 4)], (10, 18)), ([("hold", 1, 1), ("size", "row", 0, 9)], (18, 18)),
+            ([], (10, 18)), ([("screen", 20, 48)], (0, 0)), ([("screen", 30, 60)], (0, 0)),
+            ([("screen", 19, 47)], (1, 1)),
+            ([("screen", 1, 1)], (19, 47)), ([("hold", 5, 4)], (10, 18)),
+            ([("hold", 1, 1), ("size", "row", 0, 9)], (18, 18)),
             ([("hold", 1, 1), ("size", "row", 0, 10)], (0, 18)), ([("hold", 1, 1), ("size", "row", 0, 11)], (0, 18)),
             ([("hold", 0, 5)], (10, 0)), ([("size", "column", 3, 29), ("hold", 0, 4)], (10, 0)),
-            ([("hide", "row", 0, 5)], (5, 18)), ([("hide", "row", 0, 20)], (0, 18)), ([("hide", "column", 1, 4)], (10, 0)),
+            ([("hide", "row", 0, 5)], (5, 18)), ([("hide", "row", 0, 20)], (0, 18)),
+            ([("hide", "column", 1, 4)], (10, 0)),
             ([("put", "row", 3, 7)], (17, 18)), ([("cut", "column", 3, 2)], (10, 6)),
         ):
             self.assertEqual(self.greatest(view_of(20, 8, deeds)), due, deeds)
@@ -101,7 +105,8 @@ class Scrolls(ComparedViews):
         for deed, due in (
             (("cut", "row", 0, 1), (9, 18)), (("cut", "row", 0, 12), (0, 18)), (("hide", "row", 3, 4), (6, 18)),
             (("hide", "column", 3, 1), (10, 12)), (("size", "column", 0, 1), (10, 13)), (("screen", 12, 30), (8, 18)),
-            (("screen", 30, 60), (0, 0)), (("screen", 9, 29), (10, 18)), (("put", "row", 0, 5), (10, 18)), (("hold", 5, 5), (10, 0)),
+            (("screen", 30, 60), (0, 0)), (("screen", 9, 29), (10, 18)), (("put", "row", 0, 5), (10, 18)),
+            (("hold", 5, 5), (10, 0)),
             (("hold", 5, 4), (10, 18)), (("fit", "column", 0), (10, 18)), (("text", 0, 0, "x"), (10, 18)),
         ):
             view = view_of(20, 8, begun + [deed])
@@ -116,10 +121,11 @@ class Scrolls(ComparedViews):
         self.assertEqual(view.scroll(), (0, 18))
 
     def test_by_a_hold_that_is_brought_to_the_count(self):
-        # The hold first: by two held columns of thirty there would be no scroll.
-        view = view_of(20, 6, [("size", "column", 0, 29), ("hold", 0, 2), ("hold", 0, 1), ("scroll", 0, 29)])
-        self.assertEqual(view.scroll(), (0, 29))
-        view.do(("cut", "column", 1, 5))
+        view = view_of(20, 3, [("size", "column", 2, 50), ("hold", 0, 3)])
+        self.assertEqual(self.greatest(view), (10, 0))
+        view.do(("cut", "column", 1, 2))
+        self.assertEqual((view.hold(), view.scroll(), self.greatest(view)), ((0, 1), (0, 0), (10, 0)))
+        view = view_of(20, 6, [("size", "column", 0, 29), ("hold", 0, 1), ("scroll", 0, 29), ("cut", "column", 1, 5)])
         self.assertEqual((view.hold(), view.scroll()), ((0, 1), (0, 0)))
 
     def test_within_several(self):

@@ -43,12 +43,14 @@ class WithoutShifts(unittest.TestCase):
                    [("put", 0, 0, "  "), ("put", 1, 6, "cd"), ("put", 2, 6, "  ")])
 
     def test_the_drawing_stays(self):
-        for deed in (("caret", 1, 1), ("hold", 1, 1), ("look", 0, 0, "right", "top", True), ("all", ()), ("scroll", 0, 0),
+        for deed in (("caret", 1, 1), ("hold", 1, 1), ("look", 0, 0, "right", "top", True), ("all", ()),
+                     ("scroll", 0, 0),
                      ("scroll", 1, 3), ("put", "row", 3, 2), ("merge", 2, 2, 2, 2)):
             self.check([], deed, [])
 
     def test_put_and_cut(self):
-        self.check(ROWS, ("cut", "row", 0, 3), [("put", 0, 0, "stuvwx"), ("put", 1, 0, "yzABCD"), ("put", 2, 0, "EFGHIJ"),
+        self.check(ROWS, ("cut", "row", 0, 3), [("put", 0, 0, "stuvwx"), ("put", 1, 0, "yzABCD"),
+                                                ("put", 2, 0, "EFGHIJ"),
                                                 ("put", 3, 0, "~" * 12)])
 
     def test_sizes_are_no_scroll(self):
@@ -65,7 +67,8 @@ class WithoutShifts(unittest.TestCase):
         self.check([], ("screen", 7, 37), [("put", v, 36, "~") for v in range(6)] + [("put", 6, 0, "~" * 37)])
 
     def test_another_screen_of_as_many_places(self):
-        self.check([("text", 0, 0, "ab")], ("screen", 12, 4), [("put", 0, 0, "ab")] + [("put", v, 0, "~~~~") for v in range(6, 12)])
+        self.check([("text", 0, 0, "ab")], ("screen", 12, 4),
+                   [("put", 0, 0, "ab")] + [("put", v, 0, "~~~~") for v in range(6, 12)])
 
     def test_scrolled_and_another_screen(self):
         view = view_of(6, 6, ROWS + [("scroll", 2, 0), ("screen", 5, 12)], screen=(4, 12))
@@ -83,19 +86,23 @@ class Shifted(unittest.TestCase):
 
     def test_down(self):
         self.check(ROWS, ("scroll", 1, 0), [("shift", 0, 0, 4, 12, 1, 0), ("put", 3, 0, "yzABCD")])
-        self.check(ROWS, ("scroll", 2, 0), [("shift", 0, 0, 4, 12, 2, 0), ("put", 2, 0, "yzABCD"), ("put", 3, 0, "EFGHIJ")])
+        self.check(ROWS, ("scroll", 2, 0), [("shift", 0, 0, 4, 12, 2, 0), ("put", 2, 0, "yzABCD"),
+                                            ("put", 3, 0, "EFGHIJ")])
 
     def test_up(self):
-        self.check(ROWS + [("scroll", 2, 0)], ("scroll", 1, 0), [("shift", 0, 0, 4, 12, -1, 0), ("put", 0, 0, "ghijkl")])
+        self.check(ROWS + [("scroll", 2, 0)], ("scroll", 1, 0),
+                   [("shift", 0, 0, 4, 12, -1, 0), ("put", 0, 0, "ghijkl")])
 
     def test_across(self):
         self.check(ROWS, ("scroll", 0, 2), [("shift", 0, 0, 4, 12, 0, 2)])
         self.check(ROWS + [("scroll", 0, 2)], ("scroll", 0, 1),
-                   [("shift", 0, 0, 4, 12, 0, -1), ("put", 0, 0, "b"), ("put", 1, 0, "h"), ("put", 2, 0, "n"), ("put", 3, 0, "t")])
+                   [("shift", 0, 0, 4, 12, 0, -1), ("put", 0, 0, "b"), ("put", 1, 0, "h"), ("put", 2, 0, "n"),
+                    ("put", 3, 0, "t")])
 
     def test_held_rows(self):
         self.check(ROWS + [("hold", 1, 0)], ("scroll", 1, 0), [("shift", 1, 0, 3, 12, 1, 0), ("put", 3, 0, "yzABCD")])
-        self.check(ROWS + [("hold", 1, 0)], ("scroll", 0, 2), [("shift", 1, 0, 3, 12, 0, 2), ("shift", 0, 0, 1, 12, 0, 2)])
+        self.check(ROWS + [("hold", 1, 0)], ("scroll", 0, 2),
+                   [("shift", 1, 0, 3, 12, 0, 2), ("shift", 0, 0, 1, 12, 0, 2)])
 
     def test_held_columns(self):
         deeds = GRID[:35] + [("hold", 0, 1)]
@@ -123,6 +130,12 @@ class Shifted(unittest.TestCase):
         deeds = GRID + [("hold", 2, 2), ("size", "row", 0, 2), ("hide", "column", 1, 1)]
         view = view_of(7, 7, deeds + [("scroll", 1, 0)], screen=(6, 12), wide=3)
         self.assertEqual(shifts(view), [("shift", 3, 3, 3, 9, 1, 0), ("shift", 3, 0, 3, 3, 1, 0)])
+
+    def test_stretches_of_one_row_or_column(self):
+        view = view_of(7, 7, GRID + [("hold", 1, 1), ("size", "column", 0, 1), ("scroll", 1, 1)], screen=(5, 12),
+                       wide=3)
+        self.assertEqual(shifts(view), [("shift", 1, 1, 4, 11, 1, 1), ("shift", 0, 1, 1, 11, 0, 1),
+                                        ("shift", 1, 0, 4, 1, 1, 0)])
 
     def test_a_held_width_beyond_the_screen(self):
         # There is no scroll across, and nothing but held columns: one stretch is left.

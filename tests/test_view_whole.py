@@ -27,7 +27,8 @@ class Exchanged(unittest.TestCase):
     """A sheet with rows for columns is seen as the other one, but for the texts' own ways."""
 
     def check_alike(self, one, other):
-        (high, wide), cells = one.size(), list(itertools.product(range(one.sheet().rows().many), range(one.sheet().columns().many)))
+        (high, wide), cells = one.size(), list(itertools.product(range(one.sheet().rows().many),
+                                                                 range(one.sheet().columns().many)))
         for ask in ("size", "hold", "scroll", "caret"):
             self.assertEqual(getattr(one, ask)(), getattr(other, ask)()[::-1], ask)
         for v, u in itertools.product(range(high), range(wide)):
@@ -39,7 +40,8 @@ class Exchanged(unittest.TestCase):
         self.assertEqual(one.sheet().columns(), other.sheet().rows())
         self.assertEqual(sorted(one.sheet().merged()), sorted(turned_box(box) for box in other.sheet().merged()))
         self.assertEqual([text[2] for text in sorted(one.sheet().texts())],
-                         [text for column, row, text in sorted(other.sheet().texts(), key=lambda each: (each[1], each[0]))])
+                         [text for column, row, text in sorted(other.sheet().texts(),
+                                                               key=lambda each: (each[1], each[0]))])
         self.assertEqual(sorted(one.laid()), sorted(turned_box(box) for box in other.laid()))
 
     def test_by_chance(self):
@@ -63,9 +65,12 @@ class Exchanged(unittest.TestCase):
 
     def test_laid_whole(self):
         # A text of one sign is laid alike in both.
-        one = view_of(6, 6, [("text", row, column, "x") for row in range(6) for column in range(row)], wide=1, screen=(5, 5))
-        other = view_of(6, 6, [("text", column, row, "x") for row in range(6) for column in range(row)], wide=1, screen=(5, 5))
-        for deed in (("hold", 2, 1), ("scroll", 1, 0), ("merge", 3, 3, 2, 3), ("hide", "row", 1, 1), ("go", "down", 9), ("put", "row", 3, 2)):
+        one = view_of(6, 6, [("text", row, column, "x") for row in range(6) for column in range(row)], wide=1,
+                      screen=(5, 5))
+        other = view_of(6, 6, [("text", column, row, "x") for row in range(6) for column in range(row)], wide=1,
+                        screen=(5, 5))
+        for deed in (("hold", 2, 1), ("scroll", 1, 0), ("merge", 3, 3, 2, 3), ("hide", "row", 1, 1),
+                     ("go", "down", 9), ("put", "row", 3, 2)):
             one.do(deed)
             other.do(exchanged(deed))
             self.assertEqual(one.drawing(), ["".join(signs) for signs in zip(*other.drawing())])
@@ -81,11 +86,13 @@ class RefusalsApart(unittest.TestCase):
     FULL += [("hide", "row", 20, 60), ("hide", "column", 20, 60)]
 
     CASES = [
-        (("text", 100, 0, "x" * 41), "NoCell"), (("text", 0, 10, "x" * 41), "BadText"), (("text", 0, 10, "x"), "Inside"),
+        (("text", 100, 0, "x" * 41), "NoCell"), (("text", 0, 10, "x" * 41), "BadText"),
+        (("text", 0, 10, "x"), "Inside"),
         (("text", 90, 0, "x" * 41), "BadText"), (("text", 90, 0, "x"), "Full"), (("text", -1, 0, "x"), "NoCell"),
         (("look", 0, 100, "no", "no", True), "NoCell"), (("look", 0, 10, "no", "top", True), "BadLook"),
         (("look", 0, 10, "left", "no", True), "BadLook"), (("look", 0, 10, "left", "top", True), "Inside"),
-        (("look", 90, 0, "left", "top", True), "Full"), (("merge", 100, 0, 0, 0), "NoCell"), (("merge", 0, 9, 0, 200), "BadMany"),
+        (("look", 90, 0, "left", "top", True), "Full"), (("merge", 100, 0, 0, 0), "NoCell"),
+        (("merge", 0, 9, 0, 200), "BadMany"),
         (("merge", 0, 9, 1, 1), "BadMany"), (("merge", 0, 9, 200, 1), "NoCell"), (("merge", 0, 9, 2, 2), "Overlap"),
         (("merge", 90, 90, 2, 2), "Full"), (("part", 100, 0), "NoCell"), (("part", 90, 0), "NotMerged"),
         (("size", "no", -1, 0), "BadAxis"), (("size", "row", -1, 0), "NoIndex"), (("size", "row", 99, 0), "BadSize"),
@@ -93,7 +100,8 @@ class RefusalsApart(unittest.TestCase):
         (("hide", "no", 100, 0), "BadAxis"), (("hide", "row", 100, 0), "NoIndex"), (("hide", "row", 99, 0), "BadMany"),
         (("hide", "row", 99, 2), "BadMany"), (("hide", "row", 99, 1), "Full"), (("show", "no", 100, 0), "BadAxis"),
         (("show", "row", 100, 0), "NoIndex"), (("show", "row", 99, 2), "BadMany"), (("put", "no", 101, 0), "BadAxis"),
-        (("put", "row", 101, 0), "NoIndex"), (("put", "row", 100, 1001), "BadMany"), (("put", "column", 0, 901), "Full"),
+        (("put", "row", 101, 0), "NoIndex"), (("put", "row", 100, 1001), "BadMany"),
+        (("put", "column", 0, 901), "Full"),
         (("cut", "no", 100, 0), "BadAxis"), (("cut", "row", 100, 0), "NoIndex"), (("cut", "row", 0, 100), "BadMany"),
         (("cut", "row", 99, 2), "BadMany"), (("fit", "no", 100), "BadAxis"), (("fit", "row", 100), "NoIndex"),
         (("hold", 6, 0), "BadHold"), (("screen", 0, 0), "BadScreen"), (("scroll", FAR, 0), "BadScroll"),
@@ -127,7 +135,8 @@ class RefusalsApart(unittest.TestCase):
     def test_boxes_told(self):
         view = view_of(9, 9, [("merge", 2, 2, 2, 2), ("merge", 0, 4, 4, 1), ("merge", 5, 0, 1, 9)])
         for deed, box in ((("text", 3, 3, "x"), (2, 2, 2, 2)), (("look", 3, 4, "left", "top", True), (0, 4, 4, 1)),
-                          (("merge", 0, 0, 9, 9), (0, 4, 4, 1)), (("merge", 3, 3, 3, 1), (2, 2, 2, 2)), (("merge", 4, 8, 2, 1), (5, 0, 1, 9))):
+                          (("merge", 0, 0, 9, 9), (0, 4, 4, 1)), (("merge", 3, 3, 3, 1), (2, 2, 2, 2)),
+                          (("merge", 4, 8, 2, 1), (5, 0, 1, 9))):
             with self.assertRaises(errors.Boxed) as caught:
                 view.do(deed)
             self.assertEqual(caught.exception.taken, box)
@@ -150,7 +159,8 @@ class FittedTexts(unittest.TestCase):
             chance = random.Random(seed)
             text, wide, side = some_text(chance), chance.randint(1, 20), chance.choice(("left", "middle", "right"))
             for height in ("top", "middle", "bottom"):
-                deeds = [("text", 1, 0, text), ("look", 1, 0, side, height, True), ("size", "column", 0, wide), ("fit", "row", 1)]
+                deeds = [("text", 1, 0, text), ("look", 1, 0, side, height, True), ("size", "column", 0, wide),
+                         ("fit", "row", 1)]
                 view = view_of(3, 1, deeds, screen=(30, 60))
                 high = view.sheet().rows().own(1)
                 shown = "".join(row[:wide].replace(" ", "") for row in view.drawing()[1:1 + high])
@@ -161,7 +171,8 @@ class FittedTexts(unittest.TestCase):
         for seed in range(60):
             chance = random.Random(seed)
             text = some_text(chance)
-            deeds = [("text", 0, 0, text), ("look", 0, 0, *chance.choice(LOOKS)[:2], True), ("fit", "column", 0), ("fit", "row", 0)]
+            deeds = [("text", 0, 0, text), ("look", 0, 0, *chance.choice(LOOKS)[:2], True), ("fit", "column", 0),
+                     ("fit", "row", 0)]
             view = view_of(1, 1, deeds, screen=(30, 60))
             wide, high = view.sheet().columns().own(0), view.sheet().rows().own(0)
             if high <= 30:
@@ -188,7 +199,8 @@ class OneGreatCell(unittest.TestCase):
             chance = random.Random(seed)
             high, wide = chance.randint(2, 4), chance.randint(1, 4)
             text, look = some_text(chance), chance.choice(LOOKS)
-            view = view_of(8, 8, [("merge", 2, 2, high, wide), ("text", 2, 2, text), ("look", 2, 2, *look)], wide=3, screen=(6, 9))
+            view = view_of(8, 8, [("merge", 2, 2, high, wide), ("text", 2, 2, text), ("look", 2, 2, *look)], wide=3,
+                           screen=(6, 9))
             for axis, number in itertools.product(AXES, range(2, 6)):
                 view.do(("size", axis, number, chance.randint(1, 5)))
                 if chance.random() < 0.3:
